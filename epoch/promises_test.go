@@ -1,0 +1,113 @@
+package epoch_test
+
+import (
+	"bytes"
+	"math"
+	"testing"
+
+	"epoch/api"
+	"epoch/epoch"
+)
+
+// These hold P1 and P2 for every call that is built: Derive, Seal, Open.
+
+var (
+	oddNumbers = []int{0, 1, -1, 1<<31 - 1, 1 << 31, 1<<32 - 1, 1 << 32, -1 << 32, math.MaxInt64, math.MinInt64}
+	oddLabels  = []string{"", "\x00", "\xff\xfe", "key", "\xc3\xa9", string(make([]byte, 5000))}
+	oddBytes   = [][]byte{nil, {}, {0}, {255, 255, 255}, {0, 0, 0, 0}, {1, 2, 3, 4, 5}, make([]byte, 5000)}
+	oddSecrets = []api.Secret{zero, mixed, {255, 255, 255, 255, 255, 255, 255, 255}}
+)
+
+// watched is a slice with room behind it, and a copy of all of that: what is
+// handed in is written into neither before its end nor behind it.
+type watched struct{ given, whole, before []byte }
+
+func watch(content []byte) watched {
+	whole := append(bytes.Clone(content), bytes.Repeat([]byte{0xaa}, 16)...)
+	return watched{whole[:len(content)], whole, bytes.Clone(whole)}
+}
+
+func (w watched) mustBeUntouched(t *testing.T, what string) {
+	t.Helper()
+	if !bytes.Equal(w.whole, w.before) {
+		t.Errorf("P2: %s was written into: %x, before %x", what, w.whole, w.before)
+	}
+}
+
+func TestDeriveEndsAndAnswersTheSame(t *testing.T) {
+	for _, s := range oddSecrets {
+		for _, label := range oddLabels {
+			for _, number := range oddNumbers {
+				first := epoch.Derive(s, label, number)
+				epoch.Derive(first, "other", 1)
+				if again := epoch.Derive(s, label, number); again != first {
+					t.Errorf("P2: Derive(%x, %q, %d) = %x, then %x", s, label, number, first, again)
+				}
+			}
+		}
+	}
+}
+
+func TestSealAndOpenEndAtAllBytes(t *testing.T) {
+	for _, key := range oddSecrets {
+		for _, head := range oddBytes {
+			for _, text := range oddBytes {
+				mustNotOpen(t, "bytes that were not sealed", key, head, text)
+				got, ok := epoch.Open(key, head, epoch.Seal(key, head, text))
+				if !ok || !bytes.Equal(got, text) {
+					t.Errorf("P1: Open of %d bytes sealed = %x, %v", len(text), got, ok)
+				}
+			}
+		}
+	}
+}
+
+func TestSealAndOpenAnswerTheSame(t *testing.T) {
+	head, text := []byte{2, 1, 2}, ascending(20)
+	first := epoch.Seal(mixed, head, text)
+	epoch.Seal(zero, nil, []byte("another"))
+	epoch.Open(zero, nil, []byte("not sealed"))
+	if again := epoch.Seal(mixed, head, text); !bytes.Equal(again, first) {
+		t.Errorf("P2: Seal = %x, then %x", first, again)
+	}
+	for range 3 {
+		if got, ok := epoch.Open(mixed, head, first); !ok || !bytes.Equal(got, text) {
+			t.Errorf("P2: Open once more = %x, %v", got, ok)
+		}
+	}
+}
+
+func TestWhatIsHandedInIsNotWrittenInto(t *testing.T) {
+	for _, n := range []int{0, 1, 8, 40} {
+		head, text := watch([]byte{2, 1, 2}), watch(ascending(n))
+		sealed := watch(epoch.Seal(mixed, head.given, text.given))
+		epoch.Open(mixed, head.given, sealed.given)
+		epoch.Open(zero, head.given, sealed.given)
+		head.mustBeUntouched(t, "the head")
+		text.mustBeUntouched(t, "the text")
+		sealed.mustBeUntouched(t, "what was sealed")
+	}
+}
+
+func TestWhatComesOutIsTheCallers(t *testing.T) {
+	head, text := []byte{2, 1, 2}, ascending(20)
+	sealed := epoch.Seal(mixed, head, text)
+	kept := bytes.Clone(sealed)
+	clear(text)
+	clear(head)
+	if !bytes.Equal(sealed, kept) {
+		t.Error("P2: what Seal gave changes with what it was given")
+	}
+	opened, _ := epoch.Open(mixed, []byte{2, 1, 2}, sealed)
+	clear(sealed)
+	if !bytes.Equal(opened, ascending(20)) {
+		t.Error("P2: what Open gave changes with what it was given")
+	}
+	clear(opened)
+	if !bytes.Equal(epoch.Seal(mixed, []byte{2, 1, 2}, ascending(20)), kept) {
+		t.Error("P2: Seal answers otherwise when its last answer is overwritten")
+	}
+	if again, ok := epoch.Open(mixed, []byte{2, 1, 2}, kept); !ok || !bytes.Equal(again, ascending(20)) {
+		t.Error("P2: Open answers otherwise when its last answer is overwritten")
+	}
+}
