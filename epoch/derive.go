@@ -44,13 +44,3 @@ func eightBytes(n uint64) api.Secret {
 	}
 	return s
 }
-
-// Leaf is the secret of a member (P5).
-func Leaf(root api.Secret, members int, member int) (api.Secret, api.Errno) {
-	return api.Secret{}, api.OK
-}
-
-// Key is the key of a member's generation (P6).
-func Key(root api.Secret, members int, member int, generation int) (api.Secret, api.Errno) {
-	return api.Secret{}, api.OK
-}

@@ -9,7 +9,8 @@ import (
 	"epoch/epoch"
 )
 
-// These hold P1 and P2 for every call that is built: Derive, Seal, Open.
+// These hold P1 and P2 for every call that is built: Derive, Seal, Open, Leaf,
+// Key. (Their errors, and what stands beside them, are held where each call is.)
 
 var (
 	oddNumbers = []int{0, 1, -1, 1<<31 - 1, 1 << 31, 1<<32 - 1, 1 << 32, -1 << 32, math.MaxInt64, math.MinInt64}
@@ -44,6 +45,36 @@ func TestDeriveEndsAndAnswersTheSame(t *testing.T) {
 					t.Errorf("P2: Derive(%x, %q, %d) = %x, then %x", s, label, number, first, again)
 				}
 			}
+		}
+	}
+}
+
+func TestLeafAndKeyEndAtAllNumbers(t *testing.T) {
+	for _, members := range append(oddNumbers, 16, 17) {
+		for _, member := range append(oddNumbers, 15, 16) {
+			if s, err := epoch.Leaf(mixed, members, member); err != api.OK && s != zero {
+				t.Errorf("P1: Leaf of %d of %d = %x, %d", member, members, s, err)
+			}
+			for _, generation := range append(oddNumbers, api.Last, api.Last+1) {
+				if s, err := epoch.Key(mixed, members, member, generation); err != api.OK && s != zero {
+					t.Errorf("P1: Key of %d of %d at %d = %x, %d", member, members, generation, s, err)
+				}
+			}
+		}
+	}
+}
+
+func TestLeafAndKeyAnswerTheSame(t *testing.T) {
+	leaf, _ := epoch.Leaf(mixed, 7, 5)
+	key, _ := epoch.Key(mixed, 7, 5, 300)
+	for _, c := range [][3]int{{7, 5, 301}, {7, 5, 299}, {7, 6, 300}, {16, 5, 0}, {0, 0, 0}, {7, 5, -1}} {
+		epoch.Leaf(zero, c[0], c[1])
+		epoch.Key(zero, c[0], c[1], c[2])
+		if again, err := epoch.Leaf(mixed, 7, 5); again != leaf || err != api.OK {
+			t.Errorf("P2: Leaf = %x, then %x, %d", leaf, again, err)
+		}
+		if again, err := epoch.Key(mixed, 7, 5, 300); again != key || err != api.OK {
+			t.Errorf("P2: Key = %x, then %x, %d", key, again, err)
 		}
 	}
 }
