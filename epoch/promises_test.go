@@ -3,6 +3,7 @@ package epoch_test
 import (
 	"bytes"
 	"math"
+	"slices"
 	"testing"
 
 	"epoch/api"
@@ -10,7 +11,8 @@ import (
 )
 
 // These hold P1 and P2 for every call that is built: Derive, Seal, Open, Leaf,
-// Key. (Their errors, and what stands beside them, are held where each call is.)
+// Key, New, Protect, Dump, Work. (Their errors, and what stands beside them, are
+// held where each call is.)
 
 var (
 	oddNumbers = []int{0, 1, -1, 1<<31 - 1, 1 << 31, 1<<32 - 1, 1 << 32, -1 << 32, math.MaxInt64, math.MinInt64}
@@ -140,5 +142,70 @@ func TestWhatComesOutIsTheCallers(t *testing.T) {
 	}
 	if again, ok := epoch.Open(mixed, []byte{2, 1, 2}, kept); !ok || !bytes.Equal(again, ascending(20)) {
 		t.Error("P2: Open answers otherwise when its last answer is overwritten")
+	}
+}
+
+func TestNewEndsAtAllNumbers(t *testing.T) {
+	for _, members := range append(oddNumbers, 16, 17) {
+		for _, own := range append(oddNumbers, 15, 16) {
+			if g, err := epoch.New(mixed, members, own); (g == nil) != (err == api.ErrGroup) {
+				t.Errorf("P1: New of %d of %d = %v, %d", own, members, g, err)
+			}
+		}
+	}
+}
+
+func TestProtectEndsAtAllBytes(t *testing.T) {
+	for _, root := range oddSecrets {
+		g := newGroup(t, root, 16, 15)
+		for _, text := range oddBytes {
+			if frame, err := g.Protect(text); (frame == nil) != (err == api.ErrText) {
+				t.Errorf("P1: Protect of %d bytes = %x, %d", len(text), frame, err)
+			}
+		}
+	}
+}
+
+// Of two Groups of one beginning, the one is called among other calls and its
+// answers are overwritten: both must answer the same.
+func TestAGroupAnswersByItsOwnCallsAlone(t *testing.T) {
+	plain, among, other := newGroup(t, mixed, 11, 9), newGroup(t, mixed, 11, 9), newGroup(t, mixed, 11, 9)
+	for i := range 50 {
+		mustProtect(t, other, ascending(3))
+		text := ascending(i % 41)
+		frame := mustProtect(t, among, text)
+		clear(text)
+		if want := mustProtect(t, plain, ascending(i%41)); !bytes.Equal(frame, want) {
+			t.Errorf("P2: frame %d is %x, among other calls %x", i, want, frame)
+		}
+		clear(frame)
+		epoch.Key(zero, 11, 9, i)
+		if got, want := among.Dump(), plain.Dump(); !slices.Equal(got, want) {
+			t.Errorf("P2: behind frame %d Dump tells %v, among other calls %v", i, want, got)
+		}
+		clear(among.Dump())
+		if got, want := among.Work(), plain.Work(); got != want {
+			t.Errorf("P2: behind frame %d Work tells %d, among other calls %d", i, want, got)
+		}
+	}
+}
+
+func TestWhatIsProtectedIsNotWrittenInto(t *testing.T) {
+	g := newGroup(t, mixed, 3, 1)
+	for _, n := range []int{0, 1, 8, 39, 40, 41} {
+		text := watch(ascending(n))
+		g.Protect(text.given)
+		text.mustBeUntouched(t, "the text")
+	}
+}
+
+func TestFramesShareNoMemory(t *testing.T) {
+	g := newGroup(t, mixed, 3, 1)
+	first := mustProtect(t, g, ascending(10))
+	before := bytes.Clone(first)
+	second := mustProtect(t, g, ascending(10))
+	clear(second[:cap(second)])
+	if !bytes.Equal(first, before) {
+		t.Errorf("P2: the frame %x became %x with another", before, first)
 	}
 }

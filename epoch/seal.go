@@ -14,42 +14,50 @@ type tag [tagSize]byte
 
 // Seal seals a text (P4).
 func Seal(key api.Secret, head []byte, text []byte) []byte {
-	sealed := throughStream(key, text)
-	t := tagOf(key, head, sealed)
-	return append(sealed, t[:]...)
+	return seal(key, head, text, Derive)
 }
 
 // Open opens what was sealed (P4).
 func Open(key api.Secret, head []byte, sealed []byte) ([]byte, bool) {
+	return open(key, head, sealed, Derive)
+}
+
+func seal(key api.Secret, head []byte, text []byte, derive deriver) []byte {
+	sealed := throughStream(key, text, derive)
+	t := tagOf(key, head, sealed, derive)
+	return append(sealed, t[:]...)
+}
+
+func open(key api.Secret, head []byte, sealed []byte, derive deriver) ([]byte, bool) {
 	size := len(sealed) - tagSize
 	if size < 0 {
 		return nil, false
 	}
 	var t tag
 	copy(t[:], sealed[size:])
-	if t != tagOf(key, head, sealed[:size]) {
+	if t != tagOf(key, head, sealed[:size], derive) {
 		return nil, false
 	}
-	return throughStream(key, sealed[:size]), true
+	return throughStream(key, sealed[:size], derive), true
 }
 
 // throughStream both seals and unseals: exclusive or undoes itself. What it
 // gives is new memory, so that neither Seal nor Open writes into its arguments.
-func throughStream(key api.Secret, in []byte) []byte {
+func throughStream(key api.Secret, in []byte, derive deriver) []byte {
 	out := make([]byte, len(in))
 	var block api.Secret
 	for i, b := range in {
 		at := i % len(block)
 		if at == 0 {
-			block = Derive(key, "stream", i/len(block))
+			block = derive(key, "stream", i/len(block))
 		}
 		out[i] = b ^ block[at]
 	}
 	return out
 }
 
-func tagOf(key api.Secret, head []byte, sealedText []byte) tag {
-	s := Derive(key, "tag", int(sumOf(head, sealedText)&sumBits))
+func tagOf(key api.Secret, head []byte, sealedText []byte, derive deriver) tag {
+	s := derive(key, "tag", int(sumOf(head, sealedText)&sumBits))
 	var t tag
 	copy(t[:], s[:])
 	return t

@@ -1,0 +1,120 @@
+package epoch
+
+import (
+	"slices"
+	"testing"
+
+	"epoch/api"
+)
+
+// These look inside: Dump can tell what is kept, but not that nothing else is.
+
+var forgetRoot = api.Secret{1, 2, 3, 4, 0xfc, 0xfd, 0xfe, 0xff}
+
+// inMemory are all secrets that lie in a Group, told by Dump or not.
+func inMemory(g *Group) []api.Secret {
+	var secrets []api.Secret
+	for _, p := range g.tree.parts {
+		secrets = append(secrets, p.secret)
+	}
+	for _, r := range g.ratchets {
+		secrets = append(secrets, r.secret)
+	}
+	return slices.DeleteFunc(secrets, func(s api.Secret) bool { return s == api.Secret{} })
+}
+
+func mustLieOpen(t *testing.T, g *Group, when string) {
+	t.Helper()
+	var told []api.Secret
+	for _, x := range g.Dump() {
+		told = append(told, x.Secret)
+	}
+	if lie := inMemory(g); !slices.Equal(lie, told) {
+		t.Errorf("P13: %s there lie %x, and Dump tells %x", when, lie, told)
+	}
+}
+
+func TestNothingLiesInAGroupThatDumpDoesNotTell(t *testing.T) {
+	for members := 1; members <= api.MaxMembers; members++ {
+		for own := range members {
+			g, _ := New(forgetRoot, members, own)
+			mustLieOpen(t, g, "at first")
+			for range 3 {
+				g.Protect(nil)
+				mustLieOpen(t, g, "behind a frame")
+			}
+		}
+	}
+}
+
+func TestNothingLiesInAGroupBehindTheLastGeneration(t *testing.T) {
+	g, _ := New(forgetRoot, 1, 0)
+	for range api.Last + 1 {
+		g.Protect(nil)
+	}
+	if lie := inMemory(g); len(lie) != 0 {
+		t.Errorf("P13: behind the last generation there lie %x", lie)
+	}
+}
+
+// The leaves of all members are taken, from each of them on and by each stride
+// that comes to all of them.
+func TestTheTreeIsTakenApartByEveryMember(t *testing.T) {
+	for members := 1; members <= api.MaxMembers; members++ {
+		for start := range members {
+			for stride := 1; stride <= members; stride++ {
+				if !shareADivisor(stride, members) {
+					takeAllLeaves(t, members, start, stride)
+				}
+			}
+		}
+	}
+}
+
+func shareADivisor(a, b int) bool {
+	for a != 0 {
+		a, b = b%a, a
+	}
+	return b > 1
+}
+
+func takeAllLeaves(t *testing.T, members, start, stride int) {
+	t.Helper()
+	tree := wholeTree(forgetRoot, members)
+	for i := range members {
+		member := (start + i*stride) % members
+		want, _ := Leaf(forgetRoot, members, member)
+		if got := tree.takeLeaf(member, Derive); got != want || tree.find(member) >= 0 {
+			t.Errorf("P13: the leaf of %d of %d is taken as %x, not %x, and leaves %v", member, members, got, want, tree.kept())
+		}
+		mustBeInOrder(t, &tree)
+	}
+	if len(tree.kept()) != 0 {
+		t.Errorf("P13: when all leaves of %d are taken, %v is left", members, tree.kept())
+	}
+}
+
+func mustBeInOrder(t *testing.T, tree *tree) {
+	t.Helper()
+	parts := tree.kept()
+	for i := range parts {
+		if i > 0 && parts[i].from < parts[i-1].to {
+			t.Errorf("P13: the parts are out of order: %v", parts)
+		}
+	}
+	for _, p := range tree.parts[tree.count:] {
+		if p != (part{}) {
+			t.Errorf("P13: behind the parts there lies %v", p)
+		}
+	}
+}
+
+func TestProtectWhenTheEpochIsOver(t *testing.T) {
+	for _, text := range [][]byte{nil, make([]byte, api.MaxText+1)} {
+		g, _ := New(forgetRoot, 3, 1)
+		g.over = true
+		if frame, err := g.Protect(text); frame != nil || err != api.ErrClosed || g.Work() != 0 {
+			t.Errorf("P8: when the epoch is over, Protect of %d bytes = %x, %d", len(text), frame, err)
+		}
+	}
+}
