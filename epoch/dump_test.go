@@ -11,7 +11,8 @@ import (
 	"epoch/epoch"
 )
 
-// inShort is N0-2:secret of a part of the tree, H1.3:secret of a ratchet.
+// inShort is N0-2:secret of a part of the tree, H1.3:secret of a ratchet,
+// K1.2:secret of a key that was passed over.
 func inShort(items []api.Item) string {
 	var words []string
 	for _, x := range items {
@@ -20,6 +21,8 @@ func inShort(items []api.Item) string {
 			words = append(words, fmt.Sprintf("N%d-%d:%x", x.From, x.To, x.Secret))
 		case api.Head:
 			words = append(words, fmt.Sprintf("H%d.%d:%x", x.From, x.Generation, x.Secret))
+		case api.Kept:
+			words = append(words, fmt.Sprintf("K%d.%d:%x", x.From, x.Generation, x.Secret))
 		default:
 			words = append(words, fmt.Sprintf("%v", x))
 		}
@@ -138,6 +141,107 @@ func TestNothingThatIsKeptTellsAUsedKey(t *testing.T) {
 			for _, x := range g.Dump() {
 				if what, ok := gone[x.Secret]; ok {
 					t.Errorf("P13: of member %d of %d, behind frame %d, %s is kept: %v", own, members, generation, what, x)
+				}
+			}
+		}
+	})
+}
+
+func TestTheTreeIsTakenApartByAFrameThatOpensAndByNoOther(t *testing.T) {
+	eachPair(func(members, own, member int) {
+		g := newGroup(t, mixed, members, own)
+		way := strings.Fields(waysDown[members-1])[member]
+		frame := frameBy(mixed, members, member, 2, ascending(9))
+		turned := slices.Clone(frame)
+		turned[7] ^= 1
+		for _, other := range [][]byte{turned, frame[:6], frame[:7], frameBy(mixed, members, member, 6, nil), frameBy(mixed, members, own, 0, nil)} {
+			g.Unprotect(other)
+			mustKeep(t, g, "behind a frame that did not open", []api.Item{{Kind: api.Node, From: 0, To: members, Secret: mixed}})
+		}
+		mustUnprotect(t, g, frame, member, 2, ascending(9))
+		want := append(beside(mixed, members, way), headAt(downFrom(mixed, way), member, 3), keptAt(mixed, members, member, 0), keptAt(mixed, members, member, 1))
+		mustKeep(t, g, fmt.Sprintf("of %d of %d, behind frame 2 of %d,", own, members, member), want)
+		g.Unprotect(frame)
+		mustKeep(t, g, "behind the frame once more", want)
+	})
+}
+
+// It is all one in which order the ratchets are needed, and by which call.
+func TestTheTreeIsTakenApartByBothCalls(t *testing.T) {
+	eachPair(func(members, own, member int) {
+		first, second := newGroup(t, mixed, members, own), newGroup(t, mixed, members, own)
+		frame := frameBy(mixed, members, member, 0, nil)
+		mustProtect(t, first, nil)
+		mustUnprotect(t, first, frame, member, 0, nil)
+		mustUnprotect(t, second, frame, member, 0, nil)
+		mustProtect(t, second, nil)
+		want := newModel(mixed, members, own)
+		want.next[own], want.next[member] = 1, 1
+		mustKeep(t, first, "behind Protect and Unprotect", want.dump())
+		mustKeep(t, second, "behind Unprotect and Protect", want.dump())
+	})
+}
+
+func TestTheTreeIsGoneWhenAllRatchetsWereNeeded(t *testing.T) {
+	for members := 1; members <= 16; members++ {
+		g, m := newGroup(t, mixed, members, members/2), newModel(mixed, members, members/2)
+		for i := range members {
+			member := i * 7 % members
+			if members%7 == 0 {
+				member = i
+			}
+			if member == members/2 {
+				mustProtect(t, g, nil)
+				m.protect(nil)
+			} else {
+				mustAgree(t, g, m, "a first frame", frameBy(mixed, members, member, i%6, nil))
+			}
+		}
+		for _, x := range g.Dump() {
+			if x.Kind == api.Node {
+				t.Errorf("P13: of %d members, all of whose ratchets were needed, %v is kept", members, x)
+			}
+		}
+	}
+}
+
+func TestKeysThatWerePassedOverAreToldInOrder(t *testing.T) {
+	for range 20 {
+		g, m := newGroup(t, mixed, 16, 8), newModel(mixed, 16, 8)
+		for _, member := range []int{15, 3, 11, 0, 7, 12, 1, 9} {
+			mustAgree(t, g, m, "frame 4", frameBy(mixed, 16, member, 4, nil))
+			mustAgree(t, g, m, "frame 7", frameBy(mixed, 16, member, 7, nil))
+			mustAgree(t, g, m, "frame 5", frameBy(mixed, 16, member, 5, nil))
+		}
+		items := g.Dump()
+		inOrder := slices.IsSortedFunc(items, func(a, b api.Item) int {
+			return slices.Compare([]int{int(a.Kind), a.From, a.Generation}, []int{int(b.Kind), b.From, b.Generation})
+		})
+		if !inOrder {
+			t.Errorf("P13: Dump is not in order: %v", items)
+		}
+	}
+}
+
+// As above, of a key that Unprotect used; those that were passed over may be
+// told by what is kept, as long as they are not used themselves.
+func TestNothingThatIsKeptTellsAKeyThatUnprotectUsed(t *testing.T) {
+	eachPair(func(members, own, member int) {
+		g := newGroup(t, mixed, members, own)
+		way := strings.Fields(waysDown[members-1])[member]
+		gone := map[api.Secret]string{}
+		for i := range len(way) + 1 {
+			gone[downFrom(mixed, way[:i])] = "a part that has the member"
+		}
+		for _, generation := range []int{1, 4, 0, 3, 10, 8} {
+			mustUnprotect(t, g, frameBy(mixed, members, member, generation, nil), member, generation, nil)
+			for before := range generation + 1 {
+				gone[headAt(downFrom(mixed, way), member, before).Secret] = "a ratchet's secret"
+			}
+			gone[keptAt(mixed, members, member, generation).Secret] = "a key"
+			for _, x := range g.Dump() {
+				if what, ok := gone[x.Secret]; ok {
+					t.Errorf("P10, P13: behind frame %d of %d of %d, %s is kept: %v", generation, member, members, what, x)
 				}
 			}
 		}

@@ -20,6 +20,9 @@ func inMemory(g *Group) []api.Secret {
 	for _, r := range g.ratchets {
 		secrets = append(secrets, r.secret)
 	}
+	for _, p := range g.passed.places() {
+		secrets = append(secrets, *g.passed[p])
+	}
 	return slices.DeleteFunc(secrets, func(s api.Secret) bool { return s == api.Secret{} })
 }
 
@@ -44,6 +47,55 @@ func TestNothingLiesInAGroupThatDumpDoesNotTell(t *testing.T) {
 				mustLieOpen(t, g, "behind a frame")
 			}
 		}
+	}
+}
+
+// frameAt is sealed by the plain calls, so that no Group is needed for it.
+func frameAt(members int, p place) []byte {
+	key, _ := Key(forgetRoot, members, p.member, p.generation)
+	return frameOf(p, key, nil, Derive)
+}
+
+func TestNothingLiesInAGroupThatReadsThatDumpDoesNotTell(t *testing.T) {
+	for members := 2; members <= api.MaxMembers; members++ {
+		g, _ := New(forgetRoot, members, members-1)
+		for i := range 8 * members {
+			p := place{member: i * i % members, generation: i / members * 3}
+			frame := frameAt(members, p)
+			g.Unprotect(append(frame[:len(frame)-1:len(frame)-1], ^frame[len(frame)-1]))
+			mustLieOpen(t, g, "behind a frame that does not open")
+			g.Unprotect(frame)
+			mustLieOpen(t, g, "behind a frame that opens")
+			g.Unprotect(frameAt(members, place{p.member, p.generation - p.generation%2}))
+			mustLieOpen(t, g, "behind a frame of a key that was passed over")
+		}
+	}
+}
+
+// The test holds on to the memory of the keys that the Group lets go.
+func TestKeysAreOverwrittenWhenTheyAreForgotten(t *testing.T) {
+	g, _ := New(forgetRoot, 3, 0)
+	g.Unprotect(frameAt(3, place{1, 4}))
+	used, givenUp, stays := g.passed[place{1, 2}], g.passed[place{1, 0}], g.passed[place{1, 3}]
+	g.Unprotect(frameAt(3, place{1, 2}))
+	if *used != (api.Secret{}) || *givenUp == (api.Secret{}) {
+		t.Errorf("P10: a key that was used lies there as %x, one that was not as %x", *used, *givenUp)
+	}
+	g.Unprotect(frameAt(3, place{1, 7}))
+	if *givenUp != (api.Secret{}) || *stays == (api.Secret{}) {
+		t.Errorf("P11: a key that was given up lies there as %x, one that was not as %x", *givenUp, *stays)
+	}
+}
+
+func TestNothingOfATrialIsLeft(t *testing.T) {
+	tried := trial{tree: wholeTree(forgetRoot, 5)}
+	tried.upTo(place{4, 3}, Derive)
+	if len(tried.passed()) != 3 || !tried.ratchet.begun {
+		t.Errorf("P10: up to 3 a trial passes over %x", tried.passed())
+	}
+	tried.forget()
+	if tried != (trial{}) {
+		t.Errorf("P13: of a trial that is forgotten there lies %v", tried)
 	}
 }
 
@@ -115,6 +167,16 @@ func TestProtectWhenTheEpochIsOver(t *testing.T) {
 		g.over = true
 		if frame, err := g.Protect(text); frame != nil || err != api.ErrClosed || g.Work() != 0 {
 			t.Errorf("P8: when the epoch is over, Protect of %d bytes = %x, %d", len(text), frame, err)
+		}
+	}
+}
+
+func TestUnprotectWhenTheEpochIsOver(t *testing.T) {
+	for _, frame := range [][]byte{nil, make([]byte, 48), {3, 0, 0, 0, 0, 0, 0}, {1, 0, 0, 0, 0, 0, 0}, {0, 0, 9, 0, 0, 0, 0}, frameAt(3, place{0, 0})} {
+		g, _ := New(forgetRoot, 3, 1)
+		g.over = true
+		if message, err := g.Unprotect(frame); message.Text != nil || message.Member != 0 || err != api.ErrClosed || g.Work() != 0 {
+			t.Errorf("P9: when the epoch is over, Unprotect(%x) = %v, %d", frame, message, err)
 		}
 	}
 }

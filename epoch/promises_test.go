@@ -3,6 +3,8 @@ package epoch_test
 import (
 	"bytes"
 	"math"
+	"math/rand/v2"
+	"reflect"
 	"slices"
 	"testing"
 
@@ -11,7 +13,7 @@ import (
 )
 
 // These hold P1 and P2 for every call that is built: Derive, Seal, Open, Leaf,
-// Key, New, Protect, Dump, Work. (Their errors, and what stands beside them, are
+// Key, New, Protect, Unprotect, Dump, Work. (Their errors, and what stands beside them, are
 // held where each call is.)
 
 var (
@@ -166,6 +168,26 @@ func TestProtectEndsAtAllBytes(t *testing.T) {
 	}
 }
 
+func TestUnprotectEndsAtAllBytes(t *testing.T) {
+	random := rand.New(rand.NewPCG(5, 6))
+	for _, root := range oddSecrets {
+		g, m := newGroup(t, root, 16, 15), newModel(root, 16, 15)
+		for _, frame := range oddBytes {
+			mustAgree(t, g, m, "odd bytes", frame)
+		}
+		for range 3000 {
+			frame := make([]byte, random.IntN(50))
+			for i := range frame {
+				frame[i] = byte(random.IntN(256))
+			}
+			if len(frame) > 2 && random.IntN(4) > 0 {
+				frame[0], frame[1], frame[2] = frame[0]%18, 0, frame[2]%8
+			}
+			mustAgree(t, g, m, "any bytes", frame)
+		}
+	}
+}
+
 // Of two Groups of one beginning, the one is called among other calls and its
 // answers are overwritten: both must answer the same.
 func TestAGroupAnswersByItsOwnCallsAlone(t *testing.T) {
@@ -179,6 +201,14 @@ func TestAGroupAnswersByItsOwnCallsAlone(t *testing.T) {
 			t.Errorf("P2: frame %d is %x, among other calls %x", i, want, frame)
 		}
 		clear(frame)
+		comes := frameBy(mixed, 11, i%9, i/9*3+i%4, ascending(i%41))
+		message, err := among.Unprotect(comes)
+		clear(comes)
+		want, wantErr := plain.Unprotect(frameBy(mixed, 11, i%9, i/9*3+i%4, ascending(i%41)))
+		if !reflect.DeepEqual(message, want) || err != wantErr {
+			t.Errorf("P2: message %d is %v, %d, among other calls %v, %d", i, want, wantErr, message, err)
+		}
+		clear(message.Text)
 		epoch.Key(zero, 11, 9, i)
 		if got, want := among.Dump(), plain.Dump(); !slices.Equal(got, want) {
 			t.Errorf("P2: behind frame %d Dump tells %v, among other calls %v", i, want, got)
@@ -208,4 +238,40 @@ func TestFramesShareNoMemory(t *testing.T) {
 	if !bytes.Equal(first, before) {
 		t.Errorf("P2: the frame %x became %x with another", before, first)
 	}
+}
+
+func TestWhatIsUnprotectedIsNotWrittenInto(t *testing.T) {
+	g := newGroup(t, mixed, 3, 1)
+	for _, generation := range []int{5, 5, 4, 4, 0, 20} {
+		for _, n := range []int{0, 1, 8, 39, 40} {
+			frame := watch(frameBy(mixed, 3, 2, generation, ascending(n)))
+			g.Unprotect(frame.given)
+			frame.mustBeUntouched(t, "the frame")
+			turned := watch(append(frame.given[:3:3], make([]byte, n+4)...))
+			g.Unprotect(turned.given)
+			turned.mustBeUntouched(t, "a frame that does not open")
+		}
+	}
+}
+
+func TestMessagesShareNoMemory(t *testing.T) {
+	g := newGroup(t, mixed, 3, 1)
+	var messages []epoch.Message
+	for _, generation := range []int{4, 0, 1, 5} {
+		frame := frameBy(mixed, 3, 2, generation, ascending(10))
+		message, err := g.Unprotect(frame)
+		if err != api.OK {
+			t.Errorf("P9: frame %d: %d", generation, err)
+		}
+		clear(frame)
+		for _, other := range messages {
+			clear(other.Text[:cap(other.Text)])
+		}
+		if !bytes.Equal(message.Text, ascending(10)) {
+			t.Errorf("P2: the text of frame %d became %x", generation, message.Text)
+		}
+		messages = append(messages, message)
+	}
+	clear(messages[len(messages)-1].Text)
+	mustUnprotect(t, g, frameBy(mixed, 3, 2, 2, ascending(10)), 2, 2, ascending(10))
 }

@@ -32,6 +32,16 @@ func ratchetOf(leaf api.Secret, derive deriver) ratchet {
 	return ratchet{begun: true, generation: 0, secret: derive(leaf, "ratchet", 0)}
 }
 
+// begin takes the tree apart where the ratchet is needed for the first time.
+func (r *ratchet) begin(t *tree, member int, derive deriver) {
+	if r.begun {
+		return
+	}
+	leaf := t.takeLeaf(member, derive)
+	defer clear(leaf[:])
+	*r = ratchetOf(leaf, derive)
+}
+
 // goTo does one step for each generation from where the ratchet stands up to
 // the given one, without it. The step is handed on, since what is done on the
 // way is the caller's to choose; the steps are counted beforehand, so that none

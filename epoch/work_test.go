@@ -99,3 +99,50 @@ func TestWorkIsAskedWhileAFrameIsMade(t *testing.T) {
 		t.Errorf("P14: Work = %d where it was asked in between, else %d", g.Work(), once.Work())
 	}
 }
+
+func TestWorkOfUnprotect(t *testing.T) {
+	eachPair(func(members, own, member int) {
+		for passed := range 6 {
+			for _, text := range []int{0, 1, 8, 9, 40} {
+				g, m := newGroup(t, mixed, members, own), newModel(mixed, members, own)
+				frame := frameBy(mixed, members, member, passed, ascending(text))
+				turned := append([]byte{}, frame...)
+				turned[len(turned)-1] ^= 1
+				// What does not open is work too, each time.
+				mustAgree(t, g, m, "a first frame, turned,", turned)
+				mustAgree(t, g, m, "a first frame, turned, once more,", turned)
+				mustAgree(t, g, m, "a first frame", frame)
+				mustAgree(t, g, m, "a further frame", frameBy(mixed, members, member, 2*passed+1, ascending(text)))
+				mustAgree(t, g, m, "a frame of a kept key, or of none,", frameBy(mixed, members, member, 2*passed, ascending(text)))
+			}
+		}
+	})
+}
+
+func TestWorkOfUnprotectAtTheMost(t *testing.T) {
+	// Worked out by hand: four halvings, the ratchet, five passed over with a
+	// key and a next one each, the key, the tag, five blocks, the next one.
+	g := newGroup(t, mixed, 16, 0)
+	frame := frameBy(mixed, 16, 15, 5, ascending(40))
+	mustUnprotect(t, g, frame, 15, 5, ascending(40))
+	if most, all := 4+2*4+2*6+5, 8+1+10+1+1+5+1; g.Work() > most || g.Work() < all-1 {
+		t.Errorf("P14: the greatest Unprotect derives %d secrets, not %d, and no more than %d", g.Work(), all, most)
+	}
+}
+
+func TestErrorsAreNoWork(t *testing.T) {
+	g := newGroup(t, mixed, 4, 2)
+	mustUnprotect(t, g, frameBy(mixed, 4, 1, 5, nil), 1, 5, nil)
+	before := g.Work()
+	for range 100 {
+		mustNotUnprotect(t, g, "too few bytes", make([]byte, 6), api.ErrFrame)
+		mustNotUnprotect(t, g, "no such member", []byte{4, 0, 0, 0, 0, 0, 0}, api.ErrFrame)
+		mustNotUnprotect(t, g, "one's own", []byte{2, 0, 0, 0, 0, 0, 0}, api.ErrOwn)
+		mustNotUnprotect(t, g, "one given up", []byte{1, 0, 0, 0, 0, 0, 0}, api.ErrConsumed)
+		mustNotUnprotect(t, g, "one far ahead", []byte{1, 0, 12, 0, 0, 0, 0}, api.ErrFar)
+		mustNotUnprotect(t, g, "one far ahead, of a member not heard yet", []byte{0, 0, 6, 0, 0, 0, 0}, api.ErrFar)
+	}
+	if g.Work() != before {
+		t.Errorf("P14: errors are work: %d, before %d", g.Work(), before)
+	}
+}
