@@ -16,6 +16,8 @@ type fault struct {
 
 func (f fault) Error() string { return f.what }
 
+func epochIsOver() error { return fault{api.ErrClosed, "the epoch is over"} }
+
 // frameFault is what goes wrong with a frame whose head could be read.
 type frameFault struct {
 	place place

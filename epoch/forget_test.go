@@ -161,22 +161,57 @@ func mustBeInOrder(t *testing.T, tree *tree) {
 	}
 }
 
-func TestProtectWhenTheEpochIsOver(t *testing.T) {
-	for _, text := range [][]byte{nil, make([]byte, api.MaxText+1)} {
-		g, _ := New(forgetRoot, 3, 1)
-		g.over = true
-		if frame, err := g.Protect(text); frame != nil || err != api.ErrClosed || g.Work() != 0 {
-			t.Errorf("P8: when the epoch is over, Protect of %d bytes = %x, %d", len(text), frame, err)
+// readSome hands in a frame of each of the first members, so that keys of theirs
+// are kept.
+func readSome(g *Group, members, own, count int) {
+	for member := range count {
+		if member != own {
+			g.Unprotect(frameAt(members, place{member, 1 + member%5}))
 		}
 	}
 }
 
-func TestUnprotectWhenTheEpochIsOver(t *testing.T) {
-	for _, frame := range [][]byte{nil, make([]byte, 48), {3, 0, 0, 0, 0, 0, 0}, {1, 0, 0, 0, 0, 0, 0}, {0, 0, 9, 0, 0, 0, 0}, frameAt(3, place{0, 0})} {
-		g, _ := New(forgetRoot, 3, 1)
-		g.over = true
-		if message, err := g.Unprotect(frame); message.Text != nil || message.Member != 0 || err != api.ErrClosed || g.Work() != 0 {
-			t.Errorf("P9: when the epoch is over, Unprotect(%x) = %v, %d", frame, message, err)
+func TestNothingLiesInAGroupThatIsClosed(t *testing.T) {
+	for members := 1; members <= api.MaxMembers; members++ {
+		for count := range members + 1 {
+			own := members - 1
+			g, _ := New(forgetRoot, members, own)
+			readSome(g, members, own, count)
+			if count%2 == 0 {
+				g.Protect(nil)
+			}
+			if len(inMemory(g)) == 0 {
+				t.Errorf("P13: ahead of Close nothing lies in a Group")
+			}
+			for range 2 {
+				g.Close()
+				if lie := inMemory(g); len(lie) != 0 || g.tree != (tree{}) || g.ratchets != [api.MaxMembers]ratchet{} || len(g.passed) != 0 {
+					t.Errorf("P15: of %d members, behind Close there lie %x, %v, %v, %v", members, lie, g.tree, g.ratchets, g.passed)
+				}
+				g.Protect(nil)
+				readSome(g, members, own, members)
+			}
+		}
+	}
+}
+
+// The test holds on to the memory of the keys that the Group lets go.
+func TestKeysAreOverwrittenWhenTheEpochEnds(t *testing.T) {
+	for members := 2; members <= api.MaxMembers; members++ {
+		g, _ := New(forgetRoot, members, 0)
+		readSome(g, members, 0, members)
+		var keys []*api.Secret
+		for _, p := range g.passed.places() {
+			keys = append(keys, g.passed[p])
+		}
+		if len(keys) == 0 || slices.ContainsFunc(keys, func(key *api.Secret) bool { return *key == api.Secret{} }) {
+			t.Errorf("P10: of %d members there are kept %d keys", members, len(keys))
+		}
+		g.Close()
+		for _, key := range keys {
+			if *key != (api.Secret{}) {
+				t.Errorf("P15: of %d members, behind Close a key lies there as %x", members, *key)
+			}
 		}
 	}
 }

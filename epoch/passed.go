@@ -20,6 +20,12 @@ func (k passedKeys) forget(p place) {
 	delete(k, p)
 }
 
+func (k passedKeys) forgetAll() {
+	for p := range k {
+		k.forget(p)
+	}
+}
+
 // giveUp leaves a member no more keys than may be kept of it.
 func (k passedKeys) giveUp(member int) {
 	places := k.placesOf(member)

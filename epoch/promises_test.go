@@ -12,9 +12,9 @@ import (
 	"epoch/epoch"
 )
 
-// These hold P1 and P2 for every call that is built: Derive, Seal, Open, Leaf,
-// Key, New, Protect, Unprotect, Dump, Work. (Their errors, and what stands beside them, are
-// held where each call is.)
+// These hold P1 and P2 for every call. (Their errors, and what stands beside
+// them, are held where each call is; Close, and the calls behind it, in
+// close_test.go; calls at the same time in apart_test.go.)
 
 var (
 	oddNumbers = []int{0, 1, -1, 1<<31 - 1, 1 << 31, 1<<32 - 1, 1 << 32, -1 << 32, math.MaxInt64, math.MinInt64}

@@ -10,13 +10,15 @@ type Message struct {
 
 // Unprotect opens a frame (P9 to P12).
 func (g *Group) Unprotect(frame []byte) (Message, api.Errno) {
+	g.mutex.Lock()
+	defer g.mutex.Unlock()
 	message, err := g.read(frame)
 	return message, numberOf(err)
 }
 
 func (g *Group) read(frame []byte) (Message, error) {
 	if g.over {
-		return Message{}, fault{api.ErrClosed, "the epoch is over"}
+		return Message{}, epochIsOver()
 	}
 	p, err := placeIn(frame, g.members)
 	if err != nil {
